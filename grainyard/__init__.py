@@ -1,0 +1,1 @@
+"""Grainyard: sheets of veneer that are sawn and glued."""
