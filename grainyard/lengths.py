@@ -50,12 +50,7 @@ def is_length(pair, root):
 
 def added(*pairs):
     """The sum of pairs, (0, 0) for none."""
-    a = 0
-    b = 0
-    for c, e in pairs:
-        a += c
-        b += e
-    return a, b
+    return sum([a for a, b in pairs]), sum([b for a, b in pairs])
 
 
 def scaled(pair, number):
