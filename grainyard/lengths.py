@@ -1,6 +1,7 @@
 """Lengths: pairs (a, b) that stand for a + b * r, where r is the square root of a root."""
 
 from grainyard.errors import BadRoot
+from grainyard.numerals import common_divisor
 
 
 def whole_root(number):
@@ -74,3 +75,10 @@ def floor_of(pair, root):
         # b * r is never an integer here, so cutting off its digits would round it up.
         return a - whole - 1
     return a + whole
+
+
+def upright(pair, root):
+    """The least length of which a pair, or its negative, is a whole multiple; the pair is not (0, 0)."""
+    a, b = pair
+    divisor = common_divisor(pair) * sign(pair, root)
+    return a // divisor, b // divisor

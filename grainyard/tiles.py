@@ -28,27 +28,41 @@ def fractions(root, count):
         yield fraction
 
 
-def neighbours(root, number):
-    """The fractions with a number and the number behind it; raise BadCount for a number out of range."""
+def check_number(number):
+    """Raise BadCount for a number that is out of the range for tile lengths."""
     if number < 0 or number > MOST_NUMBER:
         raise BadCount(number)
+
+
+def tile_of(number, fraction):
+    """The tile length that the fraction with a number gives."""
+    p, q = fraction
+    return (-p, q) if number % 2 == 0 else (p, -q)
+
+
+def tiles_at(root, number):
+    """The tile lengths of any number that is not negative."""
     found = list(fractions(root, number + 2))
-    return found[number], found[number + 1]
+    return tile_of(number, found[number]), tile_of(number + 1, found[number + 1])
 
 
 def tile_lengths(root, number):
     """The tuple of the two tile lengths of a number."""
-    (p, q), (p1, q1) = neighbours(root, number)
-    if number % 2 == 0:
-        return (-p, q), (p1, -q1)
-    return (p, -q), (-p1, q1)
+    check_number(number)
+    return tiles_at(root, number)
+
+
+def coordinates_by(pair, tiles):
+    """The coordinates of a pair by the two tile lengths of a number."""
+    a, b = pair
+    # A tile length differs from its fraction in the signs alone.
+    (p, q), (p1, q1) = tiles
+    return a * abs(q1) + b * abs(p1), a * abs(q) + b * abs(p)
 
 
 def coordinates(pair, root, number):
     """The coordinates of a pair by the tile lengths of a number."""
-    a, b = pair
-    (p, q), (p1, q1) = neighbours(root, number)
-    return a * q1 + b * p1, a * q + b * p
+    return coordinates_by(pair, tile_lengths(root, number))
 
 
 def number_of_length(length, root):

@@ -22,6 +22,16 @@ def value(pair, root):
     return PRECISE.add(Decimal(a), PRECISE.multiply(Decimal(b), SQUARE_ROOTS[root]))
 
 
+def positive(pair, root):
+    """Whether a pair of any size stands for a positive value."""
+    a, b = pair
+    if a >= 0 and b >= 0:
+        return a > 0 or b > 0
+    if a <= 0 and b <= 0:
+        return False
+    return root * b * b > a * a if b > 0 else a * a > root * b * b
+
+
 def sign_of(number):
     return (number > 0) - (number < 0)
 

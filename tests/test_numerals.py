@@ -1,8 +1,10 @@
-"""Decimal texts of numbers of any size."""
+"""Decimal texts and common divisors of numbers of any size."""
 
 import unittest
+from itertools import product as all_of
+from math import gcd
 
-from grainyard.numerals import decimal_text
+from grainyard.numerals import common_divisor, decimal_text
 from tests.samples import NUMBERS
 
 
@@ -18,6 +20,16 @@ class DecimalTexts(unittest.TestCase):
         self.assertEqual(decimal_text(-(10**9000)), "-1" + "0" * 9000)
         self.assertEqual(decimal_text(10**9000 - 1), "9" * 9000)
         self.assertEqual(decimal_text(10**9000 + 42), "1" + "0" * 8998 + "42")
+
+
+class CommonDivisors(unittest.TestCase):
+    def test_as_gcd_finds_them(self):
+        for numbers in all_of([0, 1, -4, 6, 30, -105, 10**20, 7 * 10**40], repeat=3):
+            self.assertEqual(common_divisor(numbers), gcd(*numbers))
+            self.assertEqual(common_divisor(list(numbers)), gcd(*numbers))
+
+    def test_no_numbers(self):
+        self.assertEqual([common_divisor([]), common_divisor((0,)), common_divisor((-7,))], [0, 0, 7])
 
 
 if __name__ == "__main__":
