@@ -16,6 +16,13 @@ def decimal_text(number):
     return "".join(groups[::-1])
 
 
+def grouped_text(number):
+    """The decimal text of a number that is not negative, with commas between groups of three digits."""
+    digits = decimal_text(number)
+    first = (len(digits) - 1) % 3 + 1
+    return ",".join([digits[:first]] + [digits[at : at + 3] for at in range(first, len(digits), 3)])
+
+
 def common_divisor(numbers):
     """The greatest common divisor of numbers, 0 if none of them differs from 0."""
     found = 0

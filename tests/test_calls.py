@@ -65,7 +65,7 @@ class Calls(unittest.TestCase):
                 self.assertIn(node.func.attr, own | LISTED, where(path, node))
 
     def test_attributes_that_are_read_are_assigned(self):
-        known = own_methods() | LISTED
+        known = own_methods() | LISTED | {"setter"}
         for _, node in nodes(ast.Attribute):
             if not isinstance(node.ctx, ast.Load):
                 known.add(node.attr)
@@ -136,7 +136,8 @@ class Iteration(unittest.TestCase):
             for node in ast.walk(tree):
                 view = isinstance(node, ast.Call) and getattr(node.func, "attr", None) in {"items", "keys", "values"}
                 if view or called_name(node) in LAZY:
-                    self.assertTrue(is_iterated(node, parents[node]), where(path, node))
+                    tested = called_name(node) == "range" and isinstance(parents[node], ast.Compare)
+                    self.assertTrue(tested or is_iterated(node, parents[node]), where(path, node))
 
     def test_aggregates_take_no_generator(self):
         names = generators()

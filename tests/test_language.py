@@ -26,6 +26,10 @@ def decorators_of(function):
     return [item.id for item in function.decorator_list if isinstance(item, ast.Name)]
 
 
+def is_setter(function):
+    return any(isinstance(item, ast.Attribute) and item.attr == "setter" for item in function.decorator_list)
+
+
 def attributes_assigned(node):
     return {
         part.attr for part in ast.walk(node) if isinstance(part, ast.Attribute) and not isinstance(part.ctx, ast.Load)
@@ -125,16 +129,19 @@ class Operators(unittest.TestCase):
 class Names(unittest.TestCase):
     def test_no_name_is_a_method_and_an_attribute(self):
         methods, attributes = set(), set()
+        setters = set()
         for _, node in classes():
             methods |= {method.name for method in methods_of(node)}
+            setters |= {method.name for method in methods_of(node) if is_setter(method)}
             attributes |= attributes_assigned(node)
-        self.assertEqual(methods & attributes, set())
+        self.assertEqual(methods & attributes - setters, set())
 
     def test_properties_share_no_name_with_methods(self):
         properties, methods = set(), set()
         for _, node in classes():
             for method in methods_of(node):
-                (properties if "property" in decorators_of(method) else methods).add(method.name)
+                special = "property" in decorators_of(method) or is_setter(method)
+                (properties if special else methods).add(method.name)
         self.assertEqual(properties & methods, set())
         for builtin in [str, int, list, dict, set, bytes]:
             self.assertEqual(properties & set(dir(builtin)), set())

@@ -4,7 +4,7 @@ import unittest
 from itertools import product as all_of
 from math import gcd
 
-from grainyard.numerals import common_divisor, decimal_text
+from grainyard.numerals import common_divisor, decimal_text, grouped_text
 from tests.samples import NUMBERS
 
 
@@ -20,6 +20,10 @@ class DecimalTexts(unittest.TestCase):
         self.assertEqual(decimal_text(-(10**9000)), "-1" + "0" * 9000)
         self.assertEqual(decimal_text(10**9000 - 1), "9" * 9000)
         self.assertEqual(decimal_text(10**9000 + 42), "1" + "0" * 8998 + "42")
+
+    def test_groups(self):
+        for number in [0, 7, 12, 999, 1000, 99999, 100000, 1234567, 10**64, 10**65 - 1, 10**66]:
+            self.assertEqual(grouped_text(number), f"{number:,}")
 
 
 class CommonDivisors(unittest.TestCase):
