@@ -48,11 +48,6 @@ DEEDS = {
 }
 
 
-def yes_or_no(holds):
-    """The answer to a question."""
-    return "yes" if holds else "no"
-
-
 def undo(yard):
     """Undo the last batch."""
     yard.undo()
@@ -96,13 +91,13 @@ def squares(yard, name):
     try:
         squares_of(heap, turning=yard.turning)
     except NoSquares:
-        return yes_or_no(False)
-    return yes_or_no(True)
+        return "no"
+    return "yes"
 
 
 def link(yard, one, other):
     """Whether two heaps are linked."""
-    return yes_or_no(linked(yard.heap(one), yard.heap(other), turning=yard.turning))
+    return "yes" if linked(yard.heap(one), yard.heap(other), turning=yard.turning) else "no"
 
 
 # The number of words of each line that does no deed, and the function that answers it.

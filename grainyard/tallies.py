@@ -46,16 +46,16 @@ class Journal(Tally):
 
     def __init__(self):
         super().__init__()
-        self.listed = []
+        self.kept = []
 
     def note(self, step):
         """Tell it a step."""
         super().note(step)
-        self.listed.append(step)
+        self.kept.append(step)
 
     def told(self):
         """The list of all steps that it was told, in order."""
-        return list(self.listed)
+        return list(self.kept)
 
 
 class CutTally(Journal):

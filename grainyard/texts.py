@@ -62,12 +62,12 @@ def step_text(step):
     """The text of a step; raise BadStep(0) if it is not a step."""
     check_steps([step])
     if step[0] in ("saw", "split"):
-        deed = sawing_text(step)
+        head = sawing_text(step)
     elif step[0] in ("glue", "stack"):
-        deed = gluing_text(step)
+        head = gluing_text(step)
     else:
-        deed = f"turn {sheet_text(step[1])}"
-    return f"{deed} times {decimal_text(step[-1])}"
+        head = f"turn {sheet_text(step[1])}"
+    return f"{head} times {decimal_text(step[-1])}"
 
 
 def read_number(text):

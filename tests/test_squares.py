@@ -205,6 +205,14 @@ class SquaresOf(Case):
                 for turning in [False, True]:
                     self.check(unit_heap(root, *counts), turning)
 
+    def test_weights_that_are_hardly_negative(self):
+        for middle in [2, 3, 7, 60, 10**9 + 7, TWENTY_DIGITS]:
+            # The last heap has a * c one less than b * b.
+            for last, kind in [(middle + 3, "squares"), (middle + 2, "squares"), (middle + 1, "weight")]:
+                for counts in [(middle - 1, middle, middle, last), (last, middle, middle, middle - 1)]:
+                    for turning in [False, True]:
+                        self.assertEqual(self.check(unit_heap(3, *counts), turning), kind)
+
     def test_the_empty_heap(self):
         for root, turning in all_of(ROOTS, [False, True]):
             self.assertEqual(squares_of(Heap(root), turning=turning), Heap(root))

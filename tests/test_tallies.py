@@ -202,14 +202,6 @@ class InYards(Case):
         yard.do(("step", "oak", SPLIT))
         self.assertEqual(tally.told(), [SPLIT])
 
-    def test_a_tally_of_two_yards(self):
-        yard, other, tally = self.yard(), self.yard(), Journal()
-        yard.attach(tally)
-        other.attach(tally)
-        yard.do(("step", "oak", SPLIT))
-        other.do_all([("step", "oak", SPLIT), ("step", "oak", GLUE)])
-        self.assertEqual(tally.told(), [SPLIT, SPLIT, GLUE])
-
     def test_turns_and_depth_0(self):
         yard, tally = self.yard(turning=True, depth=0), CutTally()
         yard.attach(tally)
