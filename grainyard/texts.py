@@ -131,28 +131,26 @@ def read_step(text):
     return step if is_step(step) and step_text(step) == text else None
 
 
+def found_in_text(item):
+    """What was read from a text; raise BadText(0) if it is None."""
+    if item is None:
+        raise BadText(0)
+    return item
+
+
 def parse_pair(text):
     """The pair that a text writes."""
-    pair = read_pair(text)
-    if pair is None:
-        raise BadText(0)
-    return pair
+    return found_in_text(read_pair(text))
 
 
 def parse_sheet(text):
     """The tuple of two pairs that a text writes."""
-    sheet = read_sheet(text)
-    if sheet is None:
-        raise BadText(0)
-    return sheet
+    return found_in_text(read_sheet(text))
 
 
 def parse_step(text):
     """The step that a text writes."""
-    step = read_step(text)
-    if step is None:
-        raise BadText(0)
-    return step
+    return found_in_text(read_step(text))
 
 
 def read_root(line):

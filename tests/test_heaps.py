@@ -9,6 +9,7 @@ from grainyard.errors import BadCount, BadRoot, BadRow, BadSheet, NoSheet, Other
 from grainyard.heaps import Heap, check_sheet, turned
 from grainyard.lengths import added, scaled
 from grainyard.tables import Table
+from tests.cases import Case
 from tests.models import area_of, rows_of, some_sheets, table_of, wrong_sheets
 from tests.samples import ROOTS, SOME_ROOTS, TWENTY_DIGITS, WIDE_PAIRS
 
@@ -34,16 +35,7 @@ def heap_of(root, counter):
     return Heap(root, list(counter.items()))
 
 
-class ForHeaps(unittest.TestCase):
-    def fails(self, kind, call, *arguments, **named):
-        """The attributes of the error of this very class that a call raises, without its word."""
-        with self.assertRaises(kind) as caught:
-            call(*arguments, **named)
-        self.assertIs(type(caught.exception), kind)
-        return {name: item for name, item in vars(caught.exception).items() if name != "word"}
-
-
-class Interface(ForHeaps):
+class Interface(Case):
     def test_example(self):
         heap = Heap(2, [(((3, 0), (1, 1)), 2), (((0, 1), (2, 0)), 1), (((3, 0), (1, 1)), 1)])
         self.assertEqual(heap.rows(), [(((0, 1), (2, 0)), 1), (((3, 0), (1, 1)), 3)])
@@ -73,7 +65,7 @@ class Interface(ForHeaps):
         self.assertEqual(Heap(2).SIDES, ("across", "along"))
 
 
-class Sheets(ForHeaps):
+class Sheets(Case):
     def test_sheets(self):
         for root in ROOTS:
             for sheet in some_sheets(root):
@@ -91,7 +83,7 @@ class Sheets(ForHeaps):
             self.assertIs(type(turned((one, other))), tuple)
 
 
-class Building(ForHeaps):
+class Building(Case):
     def test_rows_in_ascending_order(self):
         for root in SOME_ROOTS:
             for counter in counters(root):
@@ -179,7 +171,7 @@ class Building(ForHeaps):
                 self.assertEqual(Heap(root, heap.rows()), heap)
 
 
-class OfSheets(ForHeaps):
+class OfSheets(Case):
     def test_none_one_several_and_equal_ones(self):
         self.assertEqual(Heap.of(2).rows(), [])
         self.assertEqual(Heap.of(2, THIRD).rows(), [(THIRD, 1)])
@@ -201,7 +193,7 @@ class OfSheets(ForHeaps):
                 self.assertEqual(self.fails(BadRow, Heap.of, root, *sheets, wrong), {"at": place})
 
 
-class Reading(ForHeaps):
+class Reading(Case):
     def test_numbers(self):
         for root in SOME_ROOTS:
             for counter in counters(root):
@@ -254,7 +246,7 @@ class Reading(ForHeaps):
             self.assertRaises(AttributeError, setattr, heap, name, 3)
 
 
-class Signs(ForHeaps):
+class Signs(Case):
     def test_sum(self):
         for root in SOME_ROOTS:
             for one, other in all_of(counters(root), repeat=2):
@@ -332,7 +324,7 @@ class Signs(ForHeaps):
                 self.assertIs(heap != thing, True)
 
 
-class FittingTogether(ForHeaps):
+class FittingTogether(Case):
     def test_sums_in_any_order(self):
         for root in SOME_ROOTS:
             heaps = [heap_of(root, counter) for counter in counters(root)]

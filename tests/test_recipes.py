@@ -7,6 +7,7 @@ from grainyard.errors import BadCount, BadStep, NoSheet
 from grainyard.heaps import Heap
 from grainyard.recipes import Recipe
 from grainyard.steps import apply_steps, back_of
+from tests.cases import Case
 from tests.models import random_runs, rows_of
 from tests.samples import SOME_ROOTS, TWENTY_DIGITS
 
@@ -33,16 +34,7 @@ def runs():
             yield turning, Heap(root, rows_of(first)), steps, Heap(root, rows_of(counters[-1]))
 
 
-class ForRecipes(unittest.TestCase):
-    def fails(self, kind, call, *arguments, **named):
-        """The attributes of the error of this very class that a call raises, without its word."""
-        with self.assertRaises(kind) as caught:
-            call(*arguments, **named)
-        self.assertIs(type(caught.exception), kind)
-        return {name: item for name, item in vars(caught.exception).items() if name != "word"}
-
-
-class Interface(ForRecipes):
+class Interface(Case):
     def test_example(self):
         split = ("split", ((2, 4), (1, 0)), "across", 2, 1)
         recipe = Recipe([split, ("stack", ((1, 2), (1, 0)), "along", 2, 1)])
@@ -66,7 +58,7 @@ class Interface(ForRecipes):
         self.assertRaises(TypeError, Recipe, [TURN], True)
 
 
-class Building(ForRecipes):
+class Building(Case):
     def test_steps_and_turning(self):
         for steps, turning in some_recipes():
             for passed in [steps, tuple(steps)]:
@@ -122,7 +114,7 @@ class Building(ForRecipes):
         self.assertRaises(AttributeError, setattr, Recipe(), "turning", True)
 
 
-class Equality(ForRecipes):
+class Equality(Case):
     def test_by_steps_and_turning(self):
         for one, other in all_of(some_recipes(), repeat=2):
             first, second = Recipe(one[0], turning=one[1]), Recipe(tuple(other[0]), turning=other[1])
@@ -142,7 +134,7 @@ class Equality(ForRecipes):
                 self.assertIs(recipe != thing, True)
 
 
-class Calling(ForRecipes):
+class Calling(Case):
     def test_heap_after_all_steps(self):
         for turning, heap, steps, last in runs():
             rows = heap.rows()
@@ -174,7 +166,7 @@ class Calling(ForRecipes):
         self.assertEqual(recipe(Heap.of(2, SHEET)), recipe(Heap.of(2, SHEET)))
 
 
-class Signs(ForRecipes):
+class Signs(Case):
     def test_sum(self):
         for one, other in all_of(some_recipes(), repeat=2):
             first, second = Recipe(one[0], turning=one[1]), Recipe(other[0], turning=other[1])
@@ -235,7 +227,7 @@ class Signs(ForRecipes):
             self.assertEqual((len(result), recipe.steps()), (1, [SPLIT]))
 
 
-class FittingTogether(ForRecipes):
+class FittingTogether(Case):
     def test_a_sum_is_one_after_the_other(self):
         for turning, heap, steps, last in runs():
             for place in [0, 1, 6, 12]:

@@ -9,6 +9,7 @@ from grainyard.errors import BadStep, NoSheet
 from grainyard.heaps import Heap
 from grainyard.lengths import sign
 from grainyard.steps import after, apply_steps, back_of, check_steps, is_step, walk
+from tests.cases import Case
 from tests.models import after_by_words, is_step_by_words, random_runs, rows_of, taken_and_made
 from tests.samples import SMALL_PAIRS, SOME_ROOTS, TWENTY_DIGITS
 
@@ -94,14 +95,7 @@ def changed_steps():
                 yield step[:at] + (item,) + step[at:]
 
 
-class ForSteps(unittest.TestCase):
-    def fails(self, kind, call, *arguments, **named):
-        """The attributes of the error of this very class that a call raises, without its word."""
-        with self.assertRaises(kind) as caught:
-            call(*arguments, **named)
-        self.assertIs(type(caught.exception), kind)
-        return {name: item for name, item in vars(caught.exception).items() if name != "word"}
-
+class ForSteps(Case):
     def all_fail(self, kind, attributes, heap, step, **named):
         """Check the error of a single step in all three functions, and that the heap stays."""
         rows = heap.rows()
